@@ -1,0 +1,1 @@
+"""Simplebetween: the simplest fraction between two."""
