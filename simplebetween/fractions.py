@@ -48,7 +48,12 @@ def is_less(one, other):
     """Whether the one bound is less than the other."""
     if not is_bound(one) or not is_bound(other):
         raise BadFraction("one of the two is no bound")
-    return one[0] * other[1] < other[0] * one[1]
+    return apart(one, other) > 0
+
+
+def apart(one, other):
+    """How far apart the cross products are: above 0 where the one is less, below 0 where it is greater."""
+    return other[0] * one[1] - one[0] * other[1]
 
 
 def lowest(top, bottom):

@@ -20,6 +20,27 @@ INTERFACE = {
         "fraction_at": ["road"],
         "borders": ["fraction"],
     },
+    "between": {
+        "simplest": ["one", "other"],
+    },
+    "nearby": {
+        "low_high": ["bound", "most"],
+        "nearest": ["bound", "most"],
+    },
+    "rows": {
+        "row_of": ["number"],
+        "size_of": ["number"],
+        "place_of": ["bound", "number"],
+        "next_one": ["bound", "number"],
+        "one_ahead": ["bound", "number"],
+        "at_place": ["place", "number"],
+    },
+    "texts": {
+        "bound_text": ["bound"],
+        "read_bound": ["text"],
+        "road_text": ["road"],
+        "read_road": ["text"],
+    },
 }
 
 # All that the program needs from outside: no clock, no chance, no files.

@@ -9,68 +9,9 @@ from math import gcd
 from simplebetween.errors import BadFraction, BadRoad, TooGreat
 from simplebetween.fractions import is_bound, is_fraction, is_less
 from simplebetween.roads import borders, fraction_at, road_of
-from tests.samples import FRACTIONS, MOST, NO_FRACTIONS, ODD_THINGS, refusal
+from tests.samples import FRACTIONS, GREAT, MOST, NO_FRACTIONS, NO_ROADS, ODD_THINGS, refusal
 
 SMALL = [(p, q) for p in range(1, 41) for q in range(1, 41) if gcd(p, q) == 1]
-
-def neighbours():
-    """The last two within the bounds of 1, 1, 2, 3, 5 ..: all tuples of their road but the last are of 1 step."""
-    low, high = 1, 1
-    while low + high <= MOST:
-        low, high = high, low + high
-    return low, high
-
-
-GREAT = [
-    (2 ** 199, 3 ** 125), (3 ** 125, 2 ** 199), (10 ** 59 + 9, MOST - 7), (MOST, MOST - 1), (MOST - 1, MOST),
-    (MOST - 1, MOST // 2), (MOST // 2, MOST - 1), (MOST - 1, MOST - 2), (MOST - 3, 10 ** 30 + 1), (MOST, 7),
-    (7, MOST), (10 ** 30 + 1, MOST - 3), neighbours(), neighbours()[::-1],
-]
-
-# Each is no road: what it breaks stands at its key.
-NO_ROADS = {
-    "another step": [("A", 1)],
-    "a small step": [("r", 1)],
-    "no step": [("", 1)],
-    "both steps": [("LR", 1)],
-    "a step as bytes": [(b"L", 1)],
-    "a number for a step": [(1, 1)],
-    "None for a step": [(None, 1)],
-    "a truth for a step": [(True, 1)],
-    "a list for a step": [(["L"], 1)],
-    "a tuple for a step": [(("L",), 1)],
-    "none of them": [("L", 0)],
-    "fewer than none": [("R", -1)],
-    "more than 10 ** 60": [("R", MOST + 1)],
-    "far more than 10 ** 60": [("R", 10 ** 3000)],
-    "True": [("L", True)],
-    "False": [("L", False)],
-    "a text for how many": [("L", "1")],
-    "a float for how many": [("L", 1.0)],
-    "None for how many": [("L", None)],
-    "a list for how many": [("L", [1])],
-    "a list for the tuple": [["L", 1]],
-    "a text for the tuple": ["L1"],
-    "a text of two for the tuple": ["LR"],
-    "a number for the tuple": [1],
-    "None for the tuple": [None],
-    "a dict for the tuple": [{"L": 1, "R": 1}],
-    "three parts": [("L", 1, 1)],
-    "one part": [("L",)],
-    "no part": [()],
-    "turned about": [(1, "L")],
-    "the same step twice": [("L", 1), ("L", 1)],
-    "the same step twice, the other one": [("R", 2), ("R", 3)],
-    "the same step twice, later": [("L", 1), ("R", 1), ("L", 2), ("L", 1)],
-    "the same step three times": [("R", 1), ("R", 1), ("R", 1)],
-    "a wrong one first": [("L", 0), ("R", 1)],
-    "a wrong one last": [("L", 1), ("R", 1), ("L", 0)],
-    "a tuple of tuples": (("L", 1), ("R", 1)),
-    "a dict of tuples": {("L", 1): 1},
-    "a tuple alone": ("L", 1),
-    "a fraction": (1, 1),
-    "a list of two": ["L", 1],
-}
 
 
 def step_by_step(steps):
