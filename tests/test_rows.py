@@ -4,6 +4,7 @@ import copy
 import unittest
 from fractions import Fraction
 
+from simplebetween import rows
 from simplebetween.errors import BadFraction, BadNumber, NotThere
 from simplebetween.fractions import is_bound, is_less
 from simplebetween.rows import at_place, next_one, one_ahead, place_of, row_of, size_of
@@ -12,6 +13,7 @@ from tests.samples import MOST, NO_BOUNDS, NO_WHOLE_NUMBERS, refusal
 NUMBERS = range(1, 61)
 WRONG_NUMBERS = NO_WHOLE_NUMBERS + [0, -1, -60, 61, 62, MOST, MOST + 1, 10 ** 3000, -10 ** 3000]
 OF_A_BOUND = (place_of, next_one, one_ahead)
+SIZES = {1: 2, 2: 3, 20: 129, 60: 1103}
 
 
 def by_trying(number):
@@ -107,6 +109,123 @@ class Places(unittest.TestCase):
             self.assertEqual([type(part) for part in told], [int, int])
 
 
+class Ends(unittest.TestCase):
+    """Both ends of some rows, the least and the greatest among them, as each function tells them."""
+
+    def test_row_of_and_size_of(self):
+        for number, size in SIZES.items():
+            with self.subTest(number=number):
+                row = row_of(number)
+                self.assertEqual(row[:2], [(0, 1), (1, number)])
+                self.assertEqual(row[-2:], [(number - 1, number), (1, 1)])
+                self.assertEqual(len(row), size)
+                self.assertEqual(size_of(number), size)
+
+    def test_place_of(self):
+        for number, size in SIZES.items():
+            with self.subTest(number=number):
+                self.assertEqual(place_of((0, 1), number), 0)
+                self.assertEqual(place_of((1, number), number), 1)
+                self.assertEqual(place_of((number - 1, number), number), size - 2)
+                self.assertEqual(place_of((1, 1), number), size - 1)
+
+    def test_at_place(self):
+        for number, size in SIZES.items():
+            with self.subTest(number=number):
+                self.assertEqual(at_place(0, number), (0, 1))
+                self.assertEqual(at_place(1, number), (1, number))
+                self.assertEqual(at_place(size - 2, number), (number - 1, number))
+                self.assertEqual(at_place(size - 1, number), (1, 1))
+                for place in (-1, -size, size, size + 1):
+                    self.assertIs(refusal(at_place, place, number), NotThere)
+
+    def test_next_one(self):
+        for number in SIZES:
+            with self.subTest(number=number):
+                self.assertEqual(next_one((0, 1), number), (1, number))
+                self.assertEqual(next_one((number - 1, number), number), (1, 1))
+                self.assertIs(refusal(next_one, (1, 1), number), NotThere)
+
+    def test_one_ahead(self):
+        for number in SIZES:
+            with self.subTest(number=number):
+                self.assertEqual(one_ahead((1, 1), number), (number - 1, number))
+                self.assertEqual(one_ahead((1, number), number), (0, 1))
+                self.assertIs(refusal(one_ahead, (0, 1), number), NotThere)
+
+    def test_beside_the_middle(self):
+        for number in (2, 20, 60):
+            half = SIZES[number] // 2
+            odd = number - 1 + number % 2
+            beside = [(odd // 2, odd), (1, 2), (odd // 2 + 1, odd)]
+            with self.subTest(number=number):
+                self.assertEqual([at_place(place, number) for place in (half - 1, half, half + 1)], beside)
+                self.assertEqual([place_of(bound, number) for bound in beside], [half - 1, half, half + 1])
+                self.assertEqual(row_of(number)[half - 1:half + 2], beside)
+                self.assertEqual([one_ahead((1, 2), number), (1, 2), next_one((1, 2), number)], beside)
+
+
+class LikeTheList(unittest.TestCase):
+    """What is told without the list is just what the list says."""
+
+    def test_all_places_of_the_rows_of_1_to_12(self):
+        for number in range(1, 13):
+            row = row_of(number)
+            self.assertEqual(size_of(number), len(row))
+            for place, bound in enumerate(row):
+                with self.subTest(number=number, place=place):
+                    self.assertEqual(place_of(bound, number), place)
+                    self.assertEqual(at_place(place, number), bound)
+                    if place > 0:
+                        self.assertEqual(one_ahead(bound, number), row[place - 1])
+                    else:
+                        self.assertIs(refusal(one_ahead, bound, number), NotThere)
+                    if place + 1 < len(row):
+                        self.assertEqual(next_one(bound, number), row[place + 1])
+                    else:
+                        self.assertIs(refusal(next_one, bound, number), NotThere)
+
+    def test_all_bounds_with_small_tops_and_bottoms_that_are_not_in_the_list(self):
+        small = [(top, bottom) for top in range(16) for bottom in range(16) if is_bound((top, bottom))]
+        for number in range(1, 13):
+            row = row_of(number)
+            for bound in small:
+                if bound not in row:
+                    with self.subTest(number=number, bound=bound):
+                        for call in OF_A_BOUND:
+                            self.assertIs(refusal(call, bound, number), NotThere)
+
+
+class NotInTheRow(unittest.TestCase):
+    """Bounds that some rows, the least and the greatest among them, do not have."""
+
+    def told_by_none(self, outside):
+        for number in SIZES:
+            row = row_of(number)
+            told = [at_place(place, number) for place in range(size_of(number))]
+            for bound in outside(number):
+                with self.subTest(number=number, bound=bound):
+                    self.assertIs(is_bound(bound), True)
+                    self.assertNotIn(bound, row)
+                    self.assertNotIn(bound, told)
+                    for call in OF_A_BOUND:
+                        self.assertIs(refusal(call, bound, number), NotThere)
+
+    def test_a_bottom_that_is_too_great(self):
+        self.told_by_none(lambda number: [
+            (1, number + 1), (number, number + 1), (2, 2 * number + 1), (number, 2 * number + 1), (60, 61), (1, MOST),
+            (MOST - 1, MOST),
+        ])
+
+    def test_a_top_above_the_bottom(self):
+        self.told_by_none(lambda number: [
+            (2, 1), (3, 2), (number + 1, 1), (number + 1, number), (61, 60), (MOST, 1), (MOST, MOST - 1),
+        ])
+
+    def test_without_end(self):
+        self.told_by_none(lambda number: [(1, 0)])
+
+
 class Refused(unittest.TestCase):
     def test_bad_number(self):
         for number in WRONG_NUMBERS:
@@ -198,3 +317,18 @@ class AskersOwn(unittest.TestCase):
             refusal(row_of, thing)
             refusal(size_of, thing)
             self.assertEqual(thing, kept)
+
+    def test_nothing_is_kept_from_one_call_to_the_next(self):
+        before = dict(vars(rows))
+        for number in (1, 2, 7, 60):
+            row_of(number)
+            size_of(number)
+            at_place(1, number)
+            place_of((0, 1), number)
+            next_one((0, 1), number)
+            one_ahead((1, 1), number)
+        self.assertEqual(vars(rows), before)
+        for name, thing in before.items():
+            if not name.startswith("__"):
+                with self.subTest(name=name):
+                    self.assertTrue(callable(thing) or type(thing) in (int, tuple))
